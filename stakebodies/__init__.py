@@ -1,0 +1,1 @@
+"""Bodies in space spanned by whole points."""
