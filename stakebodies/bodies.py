@@ -77,11 +77,10 @@ def left_chain(upright, points):
 
 
 # The order of tuples runs through a plane as some straight direction does, so going there
-# and back in it, ever to the left, is going round.
-def ring_on(plane, points):
-    touched = points_on(plane, points)
-    there = left_chain(plane[:3], touched)
-    back = left_chain(plane[:3], list(reversed(touched)))
+# and back in it, ever to the left, is going round. The points have to be unlike, and in order.
+def ring_of(upright, points):
+    there = left_chain(upright, points)
+    back = left_chain(upright, list(reversed(points)))
     return there[:-1] + back[:-1]
 
 
@@ -90,18 +89,18 @@ def pairs_round(ring):
 
 
 # Two faces walk the edge between them in unlike directions: where a pair is walked its face
-# is known, and turning about one that is not leads to a new face.
-def faces_of(points):
-    refuse_flat(points)
-    spread = sorted(set(points))
+# is known, and turning about one that is not leads to a new face. So that not every point
+# has to be looked at for every face, `about` tells points that lie about a corner as all of
+# them do, and `touched_by` those on a plane above which there is none, in order.
+def faces_from(first, about, touched_by):
     faces = []
     walked = {}
-    waiting = [first_pair(spread)]
+    waiting = [first]
     while len(waiting) > 0:
         pair = waiting.pop()
         if pair not in walked:
-            plane = plane_about(pair, spread)
-            ring = ring_on(plane, spread)
+            plane = plane_about(pair, about(pair[0]))
+            ring = ring_of(plane[:3], touched_by(plane))
             faces.append((plane, ring))
             for step in pairs_round(ring):
                 walked[step] = True
@@ -109,11 +108,28 @@ def faces_of(points):
     return sorted(faces)
 
 
-def body_of(points):
+def faces_of(points):
+    refuse_flat(points)
+    spread = sorted(set(points))
+
+    def about(corner):
+        return spread
+
+    def touched_by(plane):
+        return points_on(plane, spread)
+
+    return faces_from(first_pair(spread), about, touched_by)
+
+
+def corners_in(faces):
     corners = []
-    for plane, ring in faces_of(points):
+    for plane, ring in faces:
         corners.extend(ring)
     return sorted(set(corners))
+
+
+def body_of(points):
+    return corners_in(faces_of(points))
 
 
 def is_body(points):

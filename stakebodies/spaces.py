@@ -7,6 +7,14 @@ def way_between(P, Q):
     return (Q[0] - P[0], Q[1] - P[1], Q[2] - P[2])
 
 
+def put_together(u, v):
+    return (u[0] + v[0], u[1] + v[1], u[2] + v[2])
+
+
+def times(u, k):
+    return (u[0] * k, u[1] * k, u[2] * k)
+
+
 def cross_of(u, v):
     return (
         u[1] * v[2] - u[2] * v[1],

@@ -1,5 +1,6 @@
 """Shapes that the tests share, and a slow second reckoning that shares nothing with the program."""
 
+from fractions import Fraction
 from itertools import combinations
 from math import gcd
 
@@ -214,3 +215,35 @@ def with_more_points(corners):
     centre = more[len(corners) + 4]
     more.append(tuple((a + b) // 2 for a, b in zip(apart, centre)))
     return Dice(len(corners)).shuffled(more), corners
+
+
+def folded(corners, k):
+    return sorted(tuple(k * n for n in P) for P in corners)
+
+
+def mixed(points, weights):
+    """The points put together with whole weights, by all weights together: to be whole."""
+    whole = sum(weights)
+    sums = [sum(w * P[k] for w, P in zip(weights, points)) for k in range(3)]
+    if any(n % whole for n in sums):
+        raise AssertionError("the mixed point is not whole")
+    return tuple(n // whole for n in sums)
+
+
+def come_to(shares):
+    """What shares come to, as a number and a point, in fractions of Python's own."""
+    fractions = [(P, Fraction(top, bottom)) for P, (top, bottom) in shares]
+    whole = sum(share for P, share in fractions)
+    return whole, tuple(sum(share * P[k] for P, share in fractions) for k in range(3))
+
+
+def slow_where(planes, P):
+    return -max(slow_side(plane, P) for plane in planes)
+
+
+def all_sums(one, other):
+    return [tuple(a + b for a, b in zip(P, Q)) for P in one for Q in other]
+
+
+def slow_corners(points):
+    return sorted({P for plane, ring in slow_faces(points) for P in ring})

@@ -3,7 +3,7 @@
 import inspect
 import unittest
 
-from stakebodies import bodies, edges, spaces
+from stakebodies import bodies, edges, meetings, papers, rooms, spaces, sums
 
 FUNCTIONS = [
     (spaces, "way_between", ["P", "Q"]),
@@ -18,6 +18,19 @@ FUNCTIONS = [
     (bodies, "faces_of", ["points"]),
     (edges, "edges_of", ["land"]),
     (edges, "where_in", ["land", "P"]),
+    (papers, "shares_of", ["land", "P"]),
+    (papers, "shares_show", ["land", "P", "pairs"]),
+    (papers, "plane_beyond", ["land", "P"]),
+    (papers, "plane_bars", ["land", "P", "plane"]),
+    (rooms, "sixfold_room", ["land"]),
+    (rooms, "rooms_seen", ["land", "V"]),
+    (rooms, "shadow_of", ["land", "axis"]),
+    (rooms, "shadow_area", ["land", "axis"]),
+    (sums, "body_fold", ["land", "k"]),
+    (sums, "body_sum", ["one", "other"]),
+    (sums, "body_difference", ["one", "other"]),
+    (meetings, "meeting_of", ["one", "other"]),
+    (meetings, "parting_of", ["one", "other"]),
 ]
 
 
