@@ -2,7 +2,7 @@
 
 from stakebodies.bodies import faces_of, pairs_round, ring_of
 from stakebodies.errors import NoAxis
-from stakebodies.spaces import lift_of
+from stakebodies.spaces import is_whole, lift_of
 
 UPWARD = (0, 0, 1)
 
@@ -20,9 +20,8 @@ def sixfold_room(land):
     return sum(rooms_seen(land, land[0]))
 
 
-# True and 1.0 are equal to a whole number but are none, so the kind is asked first.
 def is_axis(thing):
-    return isinstance(thing, int) and not isinstance(thing, bool) and 0 <= thing <= 2
+    return is_whole(thing) and 0 <= thing <= 2
 
 
 # The shape lies flat in space, seen from above, so that its ring is found as a face's is.

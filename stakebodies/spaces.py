@@ -3,6 +3,11 @@
 from stakebodies.errors import Flat
 
 
+# True and 1.0 are equal to a whole number but are none, so the kind is asked.
+def is_whole(thing):
+    return isinstance(thing, int) and not isinstance(thing, bool)
+
+
 def way_between(P, Q):
     return (Q[0] - P[0], Q[1] - P[1], Q[2] - P[2])
 

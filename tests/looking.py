@@ -107,7 +107,8 @@ class Look:
                 bound.extend((alias.name, node.lineno) for alias in node.names)
             elif isinstance(node, ast.Assign):
                 bound.extend((target.id, node.lineno) for target in node.targets if isinstance(target, ast.Name))
-                self.look_at_plain_value(node.value)
+                above = {part.name for part in self.tree.body[:k] if isinstance(part, ast.FunctionDef)}
+                self.look_at_plain_value(node.value, above)
             else:
                 self.fault("L3", node.lineno)
             if isinstance(node, (ast.ClassDef, ast.ImportFrom)):
@@ -117,8 +118,10 @@ class Look:
             if names.count(name) > 1:
                 self.fault("L15", line)
 
-    def look_at_plain_value(self, value):
+    def look_at_plain_value(self, value, above):
         for node in ast.walk(value):
+            if isinstance(node, ast.Name) and node.id not in above:
+                self.fault("L3", value.lineno)
             if not isinstance(node, (ast.Constant, ast.List, ast.Tuple, ast.Dict, ast.Name, ast.UnaryOp, ast.USub,
                                      ast.Load)):
                 self.fault("L3", value.lineno)

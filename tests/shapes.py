@@ -88,6 +88,22 @@ MOVES = {
 }
 
 
+# Moves as the program is handed them: some with the product 1, some with -1.
+MOVE_TUPLES = {
+    "leaves all": (1, 0, 0, 0, 1, 0, 0, 0, 1, 0, 0, 0),
+    "far off": (1, 0, 0, 0, 1, 0, 0, 0, 1, HUGE, -3 * HUGE, 7 * HUGE - 1),
+    "slanted": (1, 3, -7, 2, 7, -12, 5, 15, -34, 0, 0, 0),
+    "slanted, put off": (1, 3, -7, 2, 7, -12, 5, 15, -34, 8, -9, 4),
+    "mirrored": (0, 1, 0, 1, 0, 0, 0, 0, 1, 0, 0, 0),
+    "mirrored, put off": (0, 1, 0, 1, 0, 0, 0, 0, 1, -3, 1, 2),
+    "turned back": (-1, 0, 0, 0, -1, 0, 0, 0, -1, 0, 0, 0),
+    "turned round": (0, 1, 0, 0, 0, 1, 1, 0, 0, 0, 0, 5),
+    "slanted mirror": (2, 1, 0, 1, 1, 0, 4, -3, -1, 6, 0, -1),
+    "sheared": (1, 10 ** 90, 0, 0, 1, 10 ** 60, 0, 0, 1, 5, -6, 7),
+    "sheared mirror": (0, 1, 10 ** 80 + 1, 1, 10 ** 70 - 3, 0, 0, 0, 1, HUGE, 1, -HUGE),
+}
+
+
 def moved_bodies():
     """Every body under every move, as tuples of a label and its corners in order."""
     for name, body in BODIES.items():
@@ -243,6 +259,12 @@ def slow_where(planes, P):
 
 def all_sums(one, other):
     return [tuple(a + b for a, b in zip(P, Q)) for P in one for Q in other]
+
+
+def slow_moved(P, move):
+    a, b, c, d, e, f, g, h, i, p, q, r = move
+    x, y, z = P
+    return (a * x + b * y + c * z + p, d * x + e * y + f * z + q, g * x + h * y + i * z + r)
 
 
 def slow_corners(points):

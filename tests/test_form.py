@@ -20,6 +20,7 @@ GOOD = [
     "    def __str__(self):\n        return ' '.join(self.things)\n",
     "def f(text):\n    try:\n        return int(text)\n    except ValueError:\n        return None\n",
     "def f(xs):\n    for x in list(xs):\n        xs.remove(x)\n    return xs\n",
+    "def f(x):\n    return x\n\n\nFS = {'f': (f, -1)}\n\n\ndef g(k):\n    return FS[k][0](1) if k in FS else None\n",
 ]
 BROKEN_NARROWLY = {
     "L13": ["def f():\n    xs = {1, 2, 3}\n    return 1 in xs\n", "def f():\n    return [lambda x: x, lambda x: 1]\n"],
@@ -145,7 +146,9 @@ class Looking(unittest.TestCase):
                     "XS = [[1], [2]]\n", "from stakebodies.errors import Flat\n\n\ndef f(Flat):\n    return Flat\n"],
             "L2": ["from math import gcd\n", "from .errors import Flat\n", "from stakebodies.errors import *\n",
                    "from stakebodies.errors import Flat as F\n", "def f():\n    from stakebodies.errors import Flat\n"],
-            "L3": ["X = len([1])\n", "if True:\n    pass\n"],
+            "L3": ["X = len([1])\n", "if True:\n    pass\n", "X = 1\nY = (X, 2)\n", "X = [len]\n",
+                   "X = {'f': f}\n\n\ndef f():\n    return 1\n",
+                   "from stakebodies.edges import edges_of\n\nX = {'f': edges_of}\n"],
             "L4": ["def f(*xs):\n    return xs\n", "def f(**xs):\n    return xs\n", "def f(*, x):\n    return x\n",
                    "def g(x):\n    return x\n\n\n@g\ndef f():\n    return 1\n"],
             "L5": ["class A:\n    x = 1\n", "class A:\n    'text'\n"],

@@ -3,7 +3,7 @@
 import inspect
 import unittest
 
-from stakebodies import bodies, edges, meetings, papers, rooms, spaces, sums
+from stakebodies import bodies, desk, edges, likeness, meetings, moves, papers, rooms, spaces, sums, texts
 
 FUNCTIONS = [
     (spaces, "way_between", ["P", "Q"]),
@@ -31,6 +31,17 @@ FUNCTIONS = [
     (sums, "body_difference", ["one", "other"]),
     (meetings, "meeting_of", ["one", "other"]),
     (meetings, "parting_of", ["one", "other"]),
+    (moves, "is_move", ["thing"]),
+    (moves, "moved", ["P", "move"]),
+    (moves, "behind", ["first", "second"]),
+    (moves, "way_back", ["move"]),
+    (moves, "body_moved", ["land", "move"]),
+    (likeness, "alike", ["one", "other"]),
+    (likeness, "own_moves", ["land"]),
+    (texts, "read_number", ["text"]),
+    (texts, "read_point", ["text"]),
+    (texts, "read_points", ["text"]),
+    (texts, "show_points", ["points"]),
 ]
 
 
@@ -41,6 +52,11 @@ class Interface(unittest.TestCase):
                 function = getattr(module, name)
                 self.assertEqual(function.__module__, module.__name__)
                 self.assertEqual(list(inspect.signature(function).parameters), arguments)
+
+    def test_the_desk(self):
+        self.assertEqual(list(inspect.signature(desk.Desk).parameters), [])
+        self.assertEqual(desk.Desk.__module__, desk.__name__)
+        self.assertEqual(list(inspect.signature(desk.Desk().say).parameters), ["row"])
 
 
 if __name__ == "__main__":

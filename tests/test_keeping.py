@@ -4,16 +4,20 @@ import unittest
 from copy import deepcopy
 
 from stakebodies.bodies import body_of, dimension_of, faces_of, is_body
+from stakebodies.desk import Desk
 from stakebodies.edges import edges_of, where_in
-from stakebodies.errors import Flat, NoAxis
+from stakebodies.errors import Flat, NoAxis, NoMove, NoName, NoRow, NoText
+from stakebodies.likeness import alike, own_moves
 from stakebodies.meetings import meeting_of, parting_of
+from stakebodies.moves import behind, body_moved, is_move, moved, way_back
 from stakebodies.papers import plane_bars, plane_beyond, shares_of, shares_show
 from stakebodies.rooms import rooms_seen, shadow_area, shadow_of, sixfold_room
 from stakebodies.spaces import plane_through, side_of
 from stakebodies.sums import body_difference, body_fold, body_sum
+from stakebodies.texts import read_number, read_point, read_points, show_points
 from tests.shapes import (
-    BOWL_FORTY, BOX, CURVE_FORTY, DRUM_FORTY, HUNDRED_FIGURES, PYRAMID, TETRA, WITHOUT_ROOM, Dice, come_to, folded,
-    slow_side,
+    BOWL_FORTY, BOX, CURVE_FORTY, DRUM_FORTY, HUNDRED_FIGURES, MOVE_TUPLES, PYRAMID, TETRA, WITHOUT_ROOM, Dice, come_to,
+    folded, slow_moved, slow_side,
 )
 
 N = HUNDRED_FIGURES
@@ -25,6 +29,12 @@ def lists_told(ask):
     """Whether a list is told of a box, or lists in a tuple."""
     told = ask(BOX)
     return isinstance(told, list) or isinstance(told, tuple) and isinstance(told[0], list)
+
+
+def told_to_a_desk(points):
+    desk = Desk()
+    desk.say("body a " + show_points(points[:40]))
+    return desk.say("show a") + desk.say("meet a a") + desk.say("alike a a")
 
 
 ASKED = {
@@ -55,6 +65,14 @@ ASKED = {
     "meeting_of, as both": lambda points: meeting_of(points, points),
     "parting_of, as the one": lambda points: parting_of(points, FAR_BOX),
     "parting_of, as the other": lambda points: parting_of(FAR_BOX, points),
+    "body_moved": lambda points: body_moved(points, MOVE_TUPLES["slanted mirror"]),
+    "alike, as the one": lambda points: alike(points, PYRAMID),
+    "alike, as the other": lambda points: alike(BOX, points),
+    "alike, as both": lambda points: alike(points, points),
+    "own_moves": own_moves,
+    "show_points": show_points,
+    "read_points": lambda points: read_points(show_points(points[:40])),
+    "Desk": told_to_a_desk,
 }
 LISTS_ASKED = {name: ask for name, ask in ASKED.items() if lists_told(ask)}
 
@@ -112,8 +130,16 @@ class HandedIn(unittest.TestCase):
                 ask(land, 3)
         self.assertEqual(land, PYRAMID)
 
+    def test_lists_refused_with_no_move_are_the_same_afterwards(self):
+        land = list(PYRAMID)
+        no_move = list(MOVE_TUPLES["slanted"])
+        with self.assertRaises(NoMove):
+            body_moved(land, no_move)
+        self.assertEqual(land, PYRAMID)
+        self.assertEqual(no_move, list(MOVE_TUPLES["slanted"]))
+
     def test_both_bodies_handed_in_are_the_same_afterwards(self):
-        for ask in (body_sum, body_difference, meeting_of, parting_of):
+        for ask in (body_sum, body_difference, meeting_of, parting_of, alike):
             for first in (BOX, PYRAMID, DRUM_FORTY, FAR_BOX):
                 for second in (BOX, TETRA, CURVE_FORTY, FAR_BOX):
                     one, other = list(first), list(second)
@@ -151,7 +177,7 @@ class Told(unittest.TestCase):
     def test_which_tell_lists(self):
         self.assertEqual({name.split(",")[0] for name in LISTS_ASKED}, {
             "body_of", "faces_of", "edges_of", "shares_of", "rooms_seen", "shadow_of", "body_fold", "body_sum",
-            "body_difference", "meeting_of",
+            "body_difference", "meeting_of", "body_moved", "own_moves", "read_points",
         })
 
     def test_rings_that_are_changed_change_no_other_answer(self):
@@ -238,6 +264,45 @@ class Bounds(unittest.TestCase):
         plane = parting_of(self.GREAT, apart)
         self.assertLessEqual(max(slow_side(plane, P) for P in self.GREAT), 0)
         self.assertEqual(min(slow_side(plane, P) for P in apart), 1)
+
+    def test_moves_and_likeness_of_forty_corners_of_a_hundred_figures(self):
+        tall = 10 ** 400 - 1
+        move = (1, tall, 0, 0, 1, 0, -tall, 5, -1, tall, -tall, 3)
+        there = sorted(slow_moved(P, move) for P in self.GREAT)
+        self.assertEqual(body_moved(self.GREAT, move), there)
+        self.assertEqual(body_moved(there, way_back(move)), self.GREAT)
+        self.assertEqual([moved(P, way_back(move)) for P in there], [slow_moved(P, way_back(move)) for P in there])
+        self.assertIs(is_move(behind(move, move)), True)
+        # It has the move alone that leaves all, so there is no other move from it to where it is moved.
+        self.assertEqual(own_moves(self.GREAT), [MOVE_TUPLES["leaves all"]])
+        self.assertEqual(alike(self.GREAT, there), move)
+        self.assertEqual(alike(there, self.GREAT), way_back(move))
+        mirrored = sorted((-P[0], P[1], P[2]) for P in self.GREAT)
+        self.assertEqual(alike(self.GREAT, mirrored), (-1, 0, 0, 0, 1, 0, 0, 0, 1, 0, 0, 0))
+        self.assertIsNone(alike(self.GREAT, sorted((P[0], P[1], 2 * P[2]) for P in self.GREAT)))
+
+    def test_texts_of_twenty_thousand_signs(self):
+        desk = Desk()
+        for sign in "0a,- ~\t\n":
+            for text in (sign * 20000, "1" + sign * 19999, "1,2,3" + sign * 19995):
+                for read in (read_number, read_point, read_points):
+                    with self.assertRaises(NoText):
+                        read(text)
+            with self.assertRaises(NoRow):
+                desk.say(sign * 20000)
+            with self.assertRaises(NoRow if sign == " " else NoName):
+                desk.say("show a" + sign * 19994)
+            with self.assertRaises(NoRow if sign == " " else NoText):
+                desk.say("body a 0,0,0" + sign * 19988)
+
+    def test_somewhat_beyond_the_bounds_nothing_of_moves_and_likeness_is_refused(self):
+        land = sorted((t, t * t, t ** 3 + 10 ** 104) for t in range(45))
+        move = (1, 0, 10 ** 404, 0, 1, 0, 0, 0, 1, 0, 10 ** 404, 0)
+        there = body_moved(land, move)
+        self.assertEqual(there, sorted(slow_moved(P, move) for P in land))
+        told = alike(land, there)
+        self.assertEqual(sorted(slow_moved(P, told) for P in land), there)
+        self.assertEqual(len(own_moves(there)), len(own_moves(land)))
 
     def test_somewhat_beyond_the_bounds_nothing_of_papers_rooms_and_sums_is_refused(self):
         land = sorted((t, t * t, t ** 3 + 10 ** 104) for t in range(45))
